@@ -1,0 +1,169 @@
+"""What several tests need: rules, wrong values, and plain ways to find the right answers."""
+
+import copy
+import unittest
+from itertools import product
+
+# The rules of the document.
+ONE = (((0, 0),),)
+CALM = (((0, 0), (1, 0)), ((0, 1), (1, 1)))
+BOTH = (((1, 1), (0, 1)), ((1, 0), (0, 0)))
+GUARD = (((0, 0), (1, 0), (2, 1)), ((0, 1), (1, 1), (2, 0)), ((1, 2), (0, 2), (2, 2)))
+SWAP = (((0, 0), (2, 0), (1, 0)), ((0, 2), (1, 1), (2, 1)), ((0, 1), (1, 2), (2, 2)))
+CYCLE = (((1, 2), (2, 2), (0, 2)), ((1, 0), (2, 0), (0, 0)), ((1, 1), (2, 1), (0, 1)))
+STUCK = (((0, 0), (1, 3), (3, 1), (2, 2)), ((2, 3), (3, 0), (1, 2), (0, 1)),
+         ((3, 2), (2, 1), (0, 3), (1, 0)), ((1, 1), (0, 2), (2, 0), (3, 3)))
+EIGHT_TURNS = (((0, 0), (1, 2), (3, 3), (2, 1)), ((3, 2), (2, 0), (0, 1), (1, 3)),
+               ((1, 1), (0, 3), (2, 2), (3, 0)), ((2, 3), (3, 1), (1, 0), (0, 2)))
+
+# A table with faults of one kind alone, and others with faults of two or more kinds.
+ONLY_TWICE = (((0, 1), (1, 1)), ((0, 0), (1, 0)))
+ONLY_THREE = (((0, 0), (2, 2), (1, 0)), ((0, 2), (2, 0), (1, 2)), ((1, 1), (2, 1), (0, 1)))
+LEFT_AND_RIGHT = (((0, 0), (0, 1)), ((1, 0), (1, 1)))
+RIGHT_AND_THREE = (((0, 0), (1, 1)), ((1, 0), (0, 1)))
+LEFT_AND_THREE = (((0, 0), (0, 1)), ((1, 1), (1, 0)))
+ALL_FAULTS = (((0, 0), (0, 0)), ((0, 0), (0, 1)))
+
+
+def shifted(n):
+    """The table of n kinds in which x y meets to y + 1 and x - 1, for any number n."""
+    return tuple(tuple(((y + 1) % n, (x - 1) % n) for y in range(n)) for x in range(n))
+
+
+def beside(one, other):
+    """Two rules put together; kinds of both only change places."""
+    n, m = len(one), len(other)
+
+    def pair(x, y):
+        if x < n and y < n:
+            return one[x][y]
+        if x >= n and y >= n:
+            u, v = other[x - n][y - n]
+            return u + n, v + n
+        return y, x
+
+    return tuple(tuple(pair(x, y) for y in range(n + m)) for x in range(n + m))
+
+
+SMALL_RULES = [ONE, CALM, BOTH, GUARD, SWAP, CYCLE, STUCK, EIGHT_TURNS]
+BIG_RULES = [shifted(5), beside(GUARD, CYCLE), beside(STUCK, SWAP), beside(STUCK, EIGHT_TURNS), shifted(8)]
+RULES = SMALL_RULES + BIG_RULES
+NO_RULES = [ONLY_TWICE, ONLY_THREE, LEFT_AND_RIGHT, RIGHT_AND_THREE, LEFT_AND_THREE, ALL_FAULTS]
+
+DEEP = ((((((((0,),),),),),),),)
+
+# None of these is a table, a grid, a kind, a place, a certificate, or a text.
+STRANGE = [None, True, False, -1, -10 ** 30, 10 ** 39, "", "0", "rule", "stars", "00\n", [], [0], [[0]], {}, {0: 0},
+           {"rule": ()}, ((),), ((0,), [0]), ("rule",), ("stars", 0), ([],), ({},), (None,), ("0",), (True,), (False,),
+           (-1,), (9,), ((0, 0),), DEEP, [DEEP], {"rule": [DEEP]}, ((((0, 0),),),), [(((0, 0),),)], ("rule", "rule")]
+
+WRONG_TABLES = STRANGE + [(), 0, 1, (0,), (0, 1), shifted(9), (((0, 1),),), (((0, -1),),), (((0,),),), (((0, 0, 0),),),
+                          (((False, 0),),), (((0, False),),), (([0, 0],),), ([(0, 0)],), [((0, 0),)], (((0, "0"),),),
+                          (((0, 0), (0, 0)),), (((0, 0),), ((0, 0),)), (((0, 0), (1, 0)), ((0, 1), (True, 1))),
+                          (((0, 0), (1, 0)), ((0, 1), (2, 1))), (((0, 0), (1, 0)), ((0, 1), [1, 1])),
+                          (((0, 0), (1, 0)), ((0, 1),)), ((), ()), ({}, {}), (CALM, CALM), "00 10\n01 11"]
+WRONG_RULES = WRONG_TABLES + NO_RULES
+
+
+def wrong_kinds(n):
+    """Values that are no kinds of the size n."""
+    return STRANGE + [n, 8, (), (0,), [], "1", {0: 1}, (0, 0)]
+
+
+def wrong_rows(n):
+    """Values that are no tuples of kinds of the size n."""
+    return [None, True, False, 0, 1, "", "0", "01", [], [0], [0, 0], {}, {0: 0}, (True,), (0, False), (n,), (0, n), (-1,),
+            (0, 0, -1), (10 ** 39,), ("0",), ("",), (None,), ((0,),), ((),), ([0],), ([],), ({},), (0, (0,)), (0, [0]), DEEP,
+            (0,) * 59 + (True,), (0,) * 70 + (n,), [(0,)], CALM]
+
+
+def wrong_places(many):
+    """Values that are no integers from 0 to many - 1."""
+    return [None, True, False, -1, many, many + 1, 10 ** 39, -10 ** 30, "", "0", (), (0,), [], [0], {}, {0: 0}, DEEP]
+
+
+WRONG_COUNTS = [None, True, False, -1, -10 ** 30, "", "0", "5", (), (0,), [], [0], {}, {0: 0}, DEEP]
+
+
+def wrong_heaps(n):
+    """Values that are no heaps of n integers from 0 on."""
+    zeros = (0,) * n
+    return [None, True, 0, n, "", "0" * n, (), [], [0] * n, {}, {k: 0 for k in range(n)}, zeros + (0,), zeros[1:],
+            zeros[1:] + (True,), zeros[1:] + (False,), (-1,) + zeros[1:], zeros[1:] + (-10 ** 30,), zeros[1:] + (None,),
+            zeros[1:] + ("0",), zeros[1:] + ((0,),), zeros[1:] + ([0],), (zeros,), DEEP]
+
+
+def spoiled(value):
+    """Values that come from one that is built from tuples, kinds and strings by spoiling one part of it."""
+    if isinstance(value, tuple):
+        yield from (list(value), dict(enumerate(value)), value + (0,), value + (None,))
+        for k, part in enumerate(value):
+            for other in spoiled(part):
+                yield value[:k] + (other,) + value[k + 1:]
+            yield value[:k] + value[k + 1:]
+            yield value[:k] + (part, part) + value[k + 1:]
+    elif isinstance(value, str):
+        yield from (None, 0, "", value + " ", value.upper(), [value], (value,), {value: value})
+    else:
+        yield from (None, str(value), [value], (value,), {value: value}, -1, 9, 10 ** 30)
+        if value < 2:
+            yield bool(value)
+
+
+def met_at(table, row, place):
+    """The row behind a meeting, for a list or a tuple of kinds."""
+    pair = table[row[place]][row[place + 1]]
+    return tuple(row[:place]) + tuple(pair) + tuple(row[place + 2:])
+
+
+def class_of(rule, row):
+    """All rows to which meetings lead from a row."""
+    found, todo = {row}, [row]
+    while todo:
+        here = todo.pop()
+        for place in range(len(row) - 1):
+            other = met_at(rule, here, place)
+            if other not in found:
+                found.add(other)
+                todo.append(other)
+    return found
+
+
+def faults_of(table):
+    """All faults of a table, by the words of the document."""
+    n = len(table)
+    found = set()
+    for x, y in product(range(n), repeat=2):
+        if met_at(table, met_at(table, (x, y), 0), 0) != (x, y):
+            found.add(("twice", x, y))
+    for x, y, z in product(range(n), repeat=3):
+        if y < z and table[x][y][0] == table[x][z][0]:
+            found.add(("left", x, y, z))
+        if y < z and table[y][x][1] == table[z][x][1]:
+            found.add(("right", x, y, z))
+        ends = []
+        for places in ((0, 1, 0), (1, 0, 1)):
+            row = (x, y, z)
+            for place in places:
+                row = met_at(table, row, place)
+            ends.append(row)
+        if ends[0] != ends[1]:
+            found.add(("three", x, y, z))
+    return found
+
+
+class Case(unittest.TestCase):
+    """A test case that can check which error is raised, with which value, and that no argument changes."""
+
+    def refuses(self, error, thing, function, *values, **named):
+        """Check that a call raises an error of just this class that carries just this value."""
+        before = copy.deepcopy((values, named))
+        with self.assertRaises(error) as caught:
+            function(*values, **named)
+        self.assertIs(caught.exception.__class__, error)
+        self.assertIs(caught.exception.thing, thing)
+        self.assertEqual(repr((values, named)), repr(before))
+
+    def is_just(self, found, wanted):
+        """Check that a value is a certain one, bools, integers, tuples and lists being told apart."""
+        self.assertEqual(repr(found), repr(wanted))

@@ -1,0 +1,32 @@
+"""Names, parameters and places of the functions of the interface."""
+
+import importlib
+import inspect
+import unittest
+
+INTERFACE = {
+    "rules": {"is_table": ["thing"], "is_rule": ["thing"], "meeting": ["table", "x", "y"], "left_turn": ["table", "x"],
+              "right_turn": ["table", "y"], "met": ["table", "row", "place"], "judge_rule": ["table"],
+              "rule_holds": ["table", "thing"], "mirror": ["table"], "table_text": ["table"], "read_table": ["text"]},
+    "stars": {"is_grid": ["thing"], "is_stars": ["thing"], "judge_stars": ["grid"], "stars_hold": ["grid", "thing"],
+              "stars_of": ["rule"], "rule_of": ["stars"], "squares": ["stars"]},
+    "orders": {"is_row": ["rule", "thing"], "order_of": ["rule", "row"], "heap_of": ["rule", "row"],
+               "turn_of_row": ["rule", "row"], "right_order": ["rule", "row"], "right_heap": ["rule", "row"],
+               "row_of": ["rule", "order"], "first_row": ["rule", "heap"], "far_kind": ["rule", "block", "place"],
+               "far_heap": ["rule", "block", "times"]},
+}
+
+
+class InterfaceTests(unittest.TestCase):
+    def test_functions(self):
+        for file, functions in INTERFACE.items():
+            module = importlib.import_module(f"threesfit.{file}")
+            for name, wanted in functions.items():
+                function = getattr(module, name)
+                self.assertTrue(inspect.isfunction(function), name)
+                self.assertEqual(function.__module__, f"threesfit.{file}", name)
+                parameters = inspect.signature(function).parameters.values()
+                self.assertEqual([one.name for one in parameters], wanted, name)
+                for one in parameters:
+                    self.assertIs(one.kind, one.POSITIONAL_OR_KEYWORD)
+                    self.assertIs(one.default, one.empty)

@@ -1,0 +1,1 @@
+"""Threesfit: rules of meeting that fit all threes, and the heaps behind their rows."""

@@ -1,0 +1,53 @@
+"""What several files need: tests that take any value, and permutations."""
+
+MOST_KINDS = 8
+
+
+def is_whole(thing):
+    """Whether any value is an integer; a bool is none."""
+    return isinstance(thing, int) and not isinstance(thing, bool)
+
+
+def is_below(thing, n):
+    """Whether any value is an integer from 0 to n - 1."""
+    return is_whole(thing) and 0 <= thing < n
+
+
+def is_kinds(thing, n):
+    """Whether any value is a tuple of kinds of the size n."""
+    return isinstance(thing, tuple) and all([is_below(part, n) for part in thing])
+
+
+def is_heap(thing, n):
+    """Whether any value is a tuple of n integers."""
+    return isinstance(thing, tuple) and len(thing) == n and all([is_whole(part) for part in thing])
+
+
+def is_square(thing):
+    """Whether any value is a tuple of n tuples of n parts each, for a size n."""
+    if not isinstance(thing, tuple) or not 1 <= len(thing) <= MOST_KINDS:
+        return False
+    return all([isinstance(part, tuple) and len(part) == len(thing) for part in thing])
+
+
+def identity(n):
+    """The permutation of n kinds that turns each kind to itself."""
+    return tuple(range(n))
+
+
+def after(t, s):
+    """The product of two permutations: it turns y to t[s[y]]."""
+    return tuple([t[y] for y in s])
+
+
+def inverse(t):
+    """The permutation that turns t[y] to y."""
+    return tuple([t.index(y) for y in range(len(t))])
+
+
+def path_of(t, y):
+    """The kinds y, t[y], t[t[y]], .. up to the last one ahead of y."""
+    path = [y]
+    while t[path[-1]] != y:
+        path.append(t[path[-1]])
+    return path
