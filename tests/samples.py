@@ -45,7 +45,13 @@ def beside(one, other):
     return tuple(tuple(pair(x, y) for y in range(n + m)) for x in range(n + m))
 
 
-SMALL_RULES = [ONE, CALM, BOTH, GUARD, SWAP, CYCLE, STUCK, EIGHT_TURNS]
+def led(t):
+    """The rule in which x y meets to t[y] and to what t turns to x."""
+    return tuple(tuple((t[y], t.index(x)) for y in range(len(t))) for x in range(len(t)))
+
+
+# The full turn of the last rule turns three kinds around, so it is not its own inverse.
+SMALL_RULES = [ONE, CALM, BOTH, GUARD, SWAP, CYCLE, STUCK, EIGHT_TURNS, led((1, 2, 0, 3))]
 BIG_RULES = [shifted(5), beside(GUARD, CYCLE), beside(STUCK, SWAP), beside(STUCK, EIGHT_TURNS), shifted(8)]
 RULES = SMALL_RULES + BIG_RULES
 NO_RULES = [ONLY_TWICE, ONLY_THREE, LEFT_AND_RIGHT, RIGHT_AND_THREE, LEFT_AND_THREE, ALL_FAULTS]
@@ -129,6 +135,67 @@ def class_of(rule, row):
     return found
 
 
+def distances_from(rule, row):
+    """All rows to which meetings lead from a row, each with the least number of meetings."""
+    found, ring = {row: 0}, [row]
+    while ring:
+        further = []
+        for here in ring:
+            for place in range(len(row) - 1):
+                other = met_at(rule, here, place)
+                if other not in found:
+                    found[other] = found[here] + 1
+                    further.append(other)
+        ring = further
+    return found
+
+
+def rows_of(n, most):
+    """All rows of n kinds with at most so many items."""
+    for many in range(most + 1):
+        yield from product(range(n), repeat=many)
+
+
+def long_rows(n):
+    """Rows of n kinds with 60 items, and with more."""
+    return [tuple(k * k % n for k in range(60)), tuple((k * 5 + k // 3) % n for k in range(61)), (n - 1,) * 200]
+
+
+def plain_product(one, other):
+    """The product of two pairs, by the words of the document."""
+    (heap, t), (more, s) = one, other
+    found = list(heap)
+    for y, many in enumerate(more):
+        found[t[y]] += many
+    return tuple(found), tuple(t[s[y]] for y in range(len(t)))
+
+
+def plain_kind_motion(rule, x):
+    """The motion of a kind."""
+    return tuple(int(y == x) for y in range(len(rule))), tuple(pair[0] for pair in rule[x])
+
+
+def plain_motion(rule, row):
+    """The motion of a row: the product of the motions of its items."""
+    found = ((0,) * len(rule), tuple(range(len(rule))))
+    for x in row:
+        found = plain_product(found, plain_kind_motion(rule, x))
+    return found
+
+
+def plain_heap(rule, row):
+    """The heap of a row."""
+    return plain_motion(rule, row)[0]
+
+
+def plain_is_pair(thing):
+    """Whether any value is a pair of a size from 1 to 8."""
+    if type(thing) is not tuple or len(thing) != 2 or {type(part) for part in thing} != {tuple}:
+        return False
+    whole = all(type(k) is int for part in thing for k in part)
+    return whole and 1 <= len(thing[0]) <= 8 and sorted(thing[1]) == list(range(len(thing[0])))
+
+
 def faults_of(table):
     """All faults of a table, by the words of the document."""
     n = len(table)
@@ -163,6 +230,19 @@ class Case(unittest.TestCase):
         self.assertIs(caught.exception.__class__, error)
         self.assertIs(caught.exception.thing, thing)
         self.assertEqual(repr((values, named)), repr(before))
+
+    def refuses_plainly(self, error, function, *values, **named):
+        """Check that a call raises an error of just this class that carries nothing."""
+        with self.assertRaises(error) as caught:
+            function(*values, **named)
+        self.assertIs(caught.exception.__class__, error)
+        self.assertEqual(vars(caught.exception), {})
+
+    def says(self, wanted, function, *values):
+        """Check that a call returns a certain value, and changes no argument."""
+        before = copy.deepcopy(values)
+        self.is_just(function(*values), wanted)
+        self.assertEqual(repr(values), repr(before))
 
     def is_just(self, found, wanted):
         """Check that a value is a certain one, bools, integers, tuples and lists being told apart."""

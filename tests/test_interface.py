@@ -14,6 +14,21 @@ INTERFACE = {
                "turn_of_row": ["rule", "row"], "right_order": ["rule", "row"], "right_heap": ["rule", "row"],
                "row_of": ["rule", "order"], "first_row": ["rule", "heap"], "far_kind": ["rule", "block", "place"],
                "far_heap": ["rule", "block", "times"]},
+    "motions": {"is_motion": ["rule", "thing"], "motion_of": ["rule", "row"], "turn_of": ["rule", "heap"],
+                "motion_product": ["one", "other"], "motion_inverse": ["motion"]},
+    "likeness": {"are_alike": ["rule", "one", "other"], "judge_alike": ["rule", "one", "other"],
+                 "alike_holds": ["rule", "one", "other", "thing"], "distance": ["rule", "one", "other"],
+                 "many_alike": ["rule", "row"], "number_of": ["rule", "row"], "class_of": ["rule", "row"],
+                 "row_at": ["rule", "heap", "number"], "heaps_of_length": ["n", "length"]},
+    "dividing": {"divides": ["rule", "one", "other"], "divides_right": ["rule", "one", "other"],
+                 "judge_divides": ["rule", "one", "other"], "divides_holds": ["rule", "one", "other", "thing"],
+                 "rest": ["rule", "one", "other"], "rest_right": ["rule", "one", "other"],
+                 "common_multiple": ["rule", "one", "other"], "common_divisor": ["rule", "one", "other"],
+                 "complement": ["rule", "one", "other"]},
+    "steps": {"is_step": ["rule", "thing"], "full_row": ["rule"], "full_turn": ["rule"], "steps_of": ["rule"],
+              "steps_form": ["rule", "row"], "right_form": ["rule", "row"], "is_steps_form": ["rule", "thing"],
+              "row_of_steps": ["rule", "form"], "full_form": ["rule", "motion"],
+              "motion_of_form": ["rule", "power", "form"]},
 }
 
 

@@ -2,21 +2,12 @@
 
 from itertools import permutations, product
 
-from tests.samples import (BIG_RULES, BOTH, GUARD, RULES, SMALL_RULES, WRONG_RULES, Case, class_of, met_at, shifted,
-                           wrong_heaps, wrong_rows)
+from tests.samples import (BIG_RULES, BOTH, GUARD, RULES, SMALL_RULES, WRONG_RULES, Case, class_of, long_rows, met_at,
+                           rows_of, shifted, wrong_heaps, wrong_rows)
 from threesfit.errors import BadHeap, BadOrder, BadRow, BadRule
 from threesfit.orders import (first_row, heap_of, is_row, order_of, right_heap, right_order, row_of, turn_of_row)
 from threesfit.rules import left_turn, mirror
 from threesfit.stars import is_stars, rule_of
-
-
-def rows_of(rule, most):
-    for many in range(most + 1):
-        yield from product(range(len(rule)), repeat=many)
-
-
-def long_rows(n):
-    return [tuple(k * k % n for k in range(60)), tuple((k * 5 + k // 3) % n for k in range(61)), (n - 1,) * 200]
 
 
 def turned(rule, row, y):
@@ -53,7 +44,7 @@ class RowTests(Case):
 class OrderTests(Case):
     def test_short_rows(self):
         for rule in SMALL_RULES:
-            for row in rows_of(rule, 4 if len(rule) < 4 else 3):
+            for row in rows_of(len(rule), 4 if len(rule) < 4 else 3):
                 order = plain_order(rule, row)
                 self.is_just(order_of(rule, row), order)
                 self.is_just(heap_of(rule, row), plain_heap(rule, order))
@@ -90,7 +81,7 @@ class OrderTests(Case):
 
     def test_from_the_right(self):
         for rule in RULES:
-            for row in list(rows_of(rule, 2)) + long_rows(len(rule)):
+            for row in list(rows_of(len(rule), 2)) + long_rows(len(rule)):
                 order = plain_order(mirror(rule), row[::-1])
                 self.is_just(right_order(rule, row), order)
                 self.is_just(right_heap(rule, row), plain_heap(rule, order))

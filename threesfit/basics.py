@@ -1,4 +1,4 @@
-"""What several files need: tests that take any value, and permutations."""
+"""What several files need: tests that take any value, permutations, and sums of heaps."""
 
 MOST_KINDS = 8
 
@@ -23,6 +23,16 @@ def is_heap(thing, n):
     return isinstance(thing, tuple) and len(thing) == n and all([is_whole(part) for part in thing])
 
 
+def is_permutation(thing, n):
+    """Whether any value is a permutation of n kinds."""
+    return is_kinds(thing, n) and len(thing) == n and len(set(thing)) == n
+
+
+def is_within(one, other):
+    """Whether a heap is at no kind greater than another one."""
+    return all([many <= limit for many, limit in zip(one, other)])
+
+
 def is_square(thing):
     """Whether any value is a tuple of n tuples of n parts each, for a size n."""
     if not isinstance(thing, tuple) or not 1 <= len(thing) <= MOST_KINDS:
@@ -43,6 +53,26 @@ def after(t, s):
 def inverse(t):
     """The permutation that turns t[y] to y."""
     return tuple([t.index(y) for y in range(len(t))])
+
+
+def turned(t, heap):
+    """The heap that a permutation makes of a heap: it has at t[y] what the heap has at y."""
+    return turned_back(inverse(t), heap)
+
+
+def turned_back(t, heap):
+    """The heap that the inverse of a permutation makes of a heap."""
+    return tuple([heap[y] for y in t])
+
+
+def added(one, other):
+    """The sum of two heaps, kind by kind."""
+    return tuple([many + more for many, more in zip(one, other)])
+
+
+def lessened(one, other):
+    """A heap less another one, kind by kind."""
+    return tuple([many - less for many, less in zip(one, other)])
 
 
 def path_of(t, y):

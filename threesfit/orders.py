@@ -17,10 +17,29 @@ def require_row(rule, row):
         raise BadRow(row)
 
 
-def order_and_turn(table, row):
-    """The order and the turn of a row of a table, both being known to be right."""
-    lefts = left_turns(table)
-    turn = identity(len(table))
+def require_rows(rule, one, other):
+    """Raise BadRule unless the rule is one, and BadRow unless both rows are rows of it, the first one first."""
+    require_rule(rule)
+    for row in (one, other):
+        if not is_kinds(row, len(rule)):
+            raise BadRow(row)
+
+
+def require_counts(rule, heap):
+    """Raise BadRule unless the rule is one, and BadHeap unless the heap is one without numbers below 0."""
+    require_rule(rule)
+    if not is_heap(heap, len(rule)) or min(heap) < 0:
+        raise BadHeap(heap)
+
+
+def one_more(lefts, turn, y):
+    """The turn of the motion that has 1 more at y than the motion with a turn, by the left turns of the kinds."""
+    return after(turn, lefts[turn.index(y)])
+
+
+def order_and_turn(lefts, row):
+    """The order and the turn of what is known to be a row, by the left turns of the kinds."""
+    turn = identity(len(lefts))
     order = []
     for x in row:
         order.append(turn[x])
@@ -28,64 +47,30 @@ def order_and_turn(table, row):
     return tuple(order), turn
 
 
-def _counts(order, n):
+def heap_and_turn(lefts, row):
+    """The heap and the turn of what is known to be a row, by the left turns of the kinds."""
+    order, turn = order_and_turn(lefts, row)
+    return counts(order, len(lefts)), turn
+
+
+def counts(order, n):
     """How often each of n kinds stands in an order."""
     return tuple([order.count(y) for y in range(n)])
 
 
-def order_of(rule, row):
-    """The order of a row."""
-    require_row(rule, row)
-    order, _ = order_and_turn(rule, row)
-    return order
-
-
-def heap_of(rule, row):
-    """The heap of a row."""
-    return _counts(order_of(rule, row), len(rule))
-
-
-def turn_of_row(rule, row):
-    """The turn of a row."""
-    require_row(rule, row)
-    _, turn = order_and_turn(rule, row)
-    return turn
-
-
-def right_order(rule, row):
-    """The order that the row, read backwards, has by the mirror of the rule."""
-    require_row(rule, row)
-    order, _ = order_and_turn(mirror(rule), row[::-1])
-    return order
-
-
-def right_heap(rule, row):
-    """The heap that counts the kinds of the right order."""
-    return _counts(right_order(rule, row), len(rule))
-
-
-def row_of(rule, order):
-    """The row with an order."""
-    require_rule(rule)
-    if not is_kinds(order, len(rule)):
-        raise BadOrder(order)
-    lefts = left_turns(rule)
-    turn = identity(len(rule))
+def row_with_order(lefts, order):
+    """The row with what is known to be an order, by the left turns of the kinds."""
+    turn = identity(len(lefts))
     row = []
     for y in order:
-        x = turn.index(y)
-        row.append(x)
-        turn = after(turn, lefts[x])
+        row.append(turn.index(y))
+        turn = one_more(lefts, turn, y)
     return tuple(row)
 
 
-def first_row(rule, heap):
-    """The first row of a heap without numbers below 0."""
-    require_rule(rule)
-    if not is_heap(heap, len(rule)) or min(heap) < 0:
-        raise BadHeap(heap)
-    lefts = left_turns(rule)
-    turn = identity(len(rule))
+def first_with_heap(lefts, heap):
+    """The first row with what is known to be a heap without numbers below 0, by the left turns of the kinds."""
+    turn = identity(len(lefts))
     still = list(heap)
     row = []
     while any(still):
@@ -94,6 +79,51 @@ def first_row(rule, heap):
         still[turn[x]] -= 1
         turn = after(turn, lefts[x])
     return tuple(row)
+
+
+def order_of(rule, row):
+    """The order of a row."""
+    require_row(rule, row)
+    order, _ = order_and_turn(left_turns(rule), row)
+    return order
+
+
+def heap_of(rule, row):
+    """The heap of a row."""
+    return counts(order_of(rule, row), len(rule))
+
+
+def turn_of_row(rule, row):
+    """The turn of a row."""
+    require_row(rule, row)
+    _, turn = order_and_turn(left_turns(rule), row)
+    return turn
+
+
+def right_order(rule, row):
+    """The order that the row, read backwards, has by the mirror of the rule."""
+    require_row(rule, row)
+    order, _ = order_and_turn(left_turns(mirror(rule)), row[::-1])
+    return order
+
+
+def right_heap(rule, row):
+    """The heap that counts the kinds of the right order."""
+    return counts(right_order(rule, row), len(rule))
+
+
+def row_of(rule, order):
+    """The row with an order."""
+    require_rule(rule)
+    if not is_kinds(order, len(rule)):
+        raise BadOrder(order)
+    return row_with_order(left_turns(rule), order)
+
+
+def first_row(rule, heap):
+    """The first row of a heap without numbers below 0."""
+    require_counts(rule, heap)
+    return first_with_heap(left_turns(rule), heap)
 
 
 def _require_far(rule, block, many):
@@ -107,7 +137,7 @@ def _require_far(rule, block, many):
 def far_kind(rule, block, place):
     """The item at a place of the order of the block that is repeated without end."""
     _require_far(rule, block, place)
-    order, turn = order_and_turn(rule, block)
+    order, turn = order_and_turn(left_turns(rule), block)
     blocks, at = divmod(place, len(block))
     # The path comes back to its beginning, so far places need no more steps than near ones.
     path = path_of(turn, order[at])
@@ -117,7 +147,7 @@ def far_kind(rule, block, place):
 def far_heap(rule, block, times):
     """The heap of the block that is repeated so many times."""
     _require_far(rule, block, times)
-    order, turn = order_and_turn(rule, block)
+    order, turn = order_and_turn(left_turns(rule), block)
     heap = [0] * len(rule)
     for y in order:
         path = path_of(turn, y)
