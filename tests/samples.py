@@ -45,6 +45,12 @@ def beside(one, other):
     return tuple(tuple(pair(x, y) for y in range(n + m)) for x in range(n + m))
 
 
+def plain_renamed(rule, p):
+    """The rule in which p[x] and p[y] meet to p[u] and p[v] where x and y meet to u and v."""
+    found = {(p[x], p[y]): (p[pair[0]], p[pair[1]]) for x, line in enumerate(rule) for y, pair in enumerate(line)}
+    return tuple(tuple(found[x, y] for y in range(len(rule))) for x in range(len(rule)))
+
+
 def led(t):
     """The rule in which x y meets to t[y] and to what t turns to x."""
     return tuple(tuple((t[y], t.index(x)) for y in range(len(t))) for x in range(len(t)))
@@ -54,6 +60,7 @@ def led(t):
 SMALL_RULES = [ONE, CALM, BOTH, GUARD, SWAP, CYCLE, STUCK, EIGHT_TURNS, led((1, 2, 0, 3))]
 BIG_RULES = [shifted(5), beside(GUARD, CYCLE), beside(STUCK, SWAP), beside(STUCK, EIGHT_TURNS), shifted(8)]
 RULES = SMALL_RULES + BIG_RULES
+SIX_RULES = [shifted(6), beside(GUARD, SWAP), beside(STUCK, BOTH), beside(EIGHT_TURNS, BOTH), led((1, 2, 0, 4, 5, 3))]
 NO_RULES = [ONLY_TWICE, ONLY_THREE, LEFT_AND_RIGHT, RIGHT_AND_THREE, LEFT_AND_THREE, ALL_FAULTS]
 
 DEEP = ((((((((0,),),),),),),),)
@@ -88,6 +95,7 @@ def wrong_places(many):
     return [None, True, False, -1, many, many + 1, 10 ** 39, -10 ** 30, "", "0", (), (0,), [], [0], {}, {0: 0}, DEEP]
 
 
+WRONG_NUMBERS = [None, True, False, "", "0", "5", (), (0,), [], [0], {}, {0: 0}, DEEP]
 WRONG_COUNTS = [None, True, False, -1, -10 ** 30, "", "0", "5", (), (0,), [], [0], {}, {0: 0}, DEEP]
 
 
@@ -97,6 +105,86 @@ def wrong_heaps(n):
     return [None, True, 0, n, "", "0" * n, (), [], [0] * n, {}, {k: 0 for k in range(n)}, zeros + (0,), zeros[1:],
             zeros[1:] + (True,), zeros[1:] + (False,), (-1,) + zeros[1:], zeros[1:] + (-10 ** 30,), zeros[1:] + (None,),
             zeros[1:] + ("0",), zeros[1:] + ((0,),), zeros[1:] + ([0],), (zeros,), DEEP]
+
+
+def plain_is_heap(thing, n):
+    """Whether any value is a tuple of n integers."""
+    return type(thing) is tuple and [type(part) for part in thing] == [int] * n
+
+
+def wrong_signed_heaps(n):
+    """Values that are no heaps of n integers of any sign."""
+    return [thing for thing in wrong_heaps(n) if not plain_is_heap(thing, n)]
+
+
+def wrong_motions(rule):
+    """Values that are no motions of a rule."""
+    n = len(rule)
+    heap, turn = plain_kind_motion(rule, n - 1)
+    others = [((0,) * n, tuple(range(1, n)) + (0,)), (heap, turn[::-1]), ((1,) * n, tuple(range(n)))]
+    wrong = [other for other in others if other != plain_motion(rule, plain_row(rule, other[0]))]
+    return wrong + STRANGE + [turn, heap, (), (heap,), (heap, turn, turn), [heap, turn], (list(heap), turn), (heap, list(turn)),
+                              (heap[1:], turn[1:]), (heap + (0,), turn + (n,)), (heap, turn[1:]), (heap, turn + (n,)), (heap, (n,) * n),
+                              (heap[:-1] + (True,), turn), (heap, (False,) + turn[1:]), (heap[:-1] + ("1",), turn),
+                              (heap, (None,) * n), ((0, 0), (0, 0)), {0: heap, 1: turn}, "motion"]
+
+
+def plain_inverse(pair):
+    """The inverse of a pair, by the words of the document."""
+    heap, t = pair
+    return tuple(-heap[t[y]] for y in range(len(t))), tuple(t.index(y) for y in range(len(t)))
+
+
+def plain_word_motion(rule, word):
+    """The motion of a word: the product of the motions of its letters."""
+    found = ((0,) * len(rule), tuple(range(len(rule))))
+    for letter in word:
+        motion = plain_kind_motion(rule, abs(letter) - 1)
+        found = plain_product(found, motion if letter > 0 else plain_inverse(motion))
+    return found
+
+
+def plain_is_word(thing, n):
+    """Whether any value is a word for n kinds."""
+    return type(thing) is tuple and all(type(part) is int and part and -n <= part <= n for part in thing)
+
+
+def wrong_letters(n):
+    """Values that are no letters for n kinds."""
+    return [thing for thing in STRANGE if thing != -1] + [0, n + 1, -n - 1, (), (1,), "1", [1], {1: 1}]
+
+
+def wrong_words(n):
+    """Values that are no words for n kinds."""
+    return [None, True, 1, -1, "", "1", "-1", [], [1], [1, -1], {}, {1: 1}, (0,), (1, 0), (0, 1), (n + 1,), (-n - 1,), (1, n + 1),
+            (True,), (1, True), (-1, False), (1, "1"), ("",), (None,), ((1,),), ((),), (1, [1]), ([],), ({},), (10 ** 39,),
+            (-10 ** 30,), DEEP, (1,) * 200 + (True,), (1, -1) * 100 + (0,), [(1,)], CALM]
+
+
+def plain_row(rule, heap):
+    """A row with a heap without numbers below 0."""
+    row, turn = [], tuple(range(len(rule)))
+    for y, many in enumerate(heap):
+        for _ in range(many):
+            row.append(turn.index(y))
+            turn = tuple(turn[rule[row[-1]][k][0]] for k in range(len(rule)))
+    return tuple(row)
+
+
+def plain_frozen(rule):
+    """The least k such that k kinds more at any one place change no turn."""
+    k = 1
+    while True:
+        rows = [plain_row(rule, (0,) * x + (k,) + (0,) * (len(rule) - x - 1)) for x in range(len(rule))]
+        if all(plain_motion(rule, row)[1] == tuple(range(len(rule))) for row in rows):
+            return k
+        k += 1
+
+
+def plain_turn(rule, heap):
+    """The turn of a heap of any sign."""
+    number = plain_frozen(rule)
+    return plain_motion(rule, plain_row(rule, tuple(many % number for many in heap)))[1]
 
 
 def spoiled(value):

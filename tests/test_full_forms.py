@@ -2,13 +2,11 @@
 
 from itertools import product
 
-from tests.samples import (BOTH, DEEP, GUARD, ONE, RULES, SMALL_RULES, STRANGE, SWAP, WRONG_RULES, Case, beside,
+from tests.samples import (BOTH, DEEP, GUARD, ONE, RULES, SMALL_RULES, STRANGE, SWAP, WRONG_NUMBERS, WRONG_RULES, Case, beside,
                            plain_is_pair, plain_motion, plain_product, shifted, spoiled)
 from threesfit.errors import BadMotion, BadNumber, BadRule, BadSteps
 from threesfit.motions import is_motion, motion_inverse, turn_of
 from threesfit.steps import full_form, full_row, is_steps_form, motion_of_form, row_of_steps, steps_form
-
-WRONG_NUMBERS = [None, True, False, "", "0", "5", (), (0,), [], [0], {}, {0: 0}, DEEP]
 
 
 def full_motion(rule, power):

@@ -29,6 +29,23 @@ INTERFACE = {
               "steps_form": ["rule", "row"], "right_form": ["rule", "row"], "is_steps_form": ["rule", "thing"],
               "row_of_steps": ["rule", "form"], "full_form": ["rule", "motion"],
               "motion_of_form": ["rule", "power", "form"]},
+    "words": {"is_word": ["rule", "thing"], "word_motion": ["rule", "word"], "fraction": ["rule", "word"],
+              "letters_met": ["rule", "one", "other"], "done": ["rule", "word", "deed"],
+              "are_same": ["rule", "one", "other"], "judge_words": ["rule", "one", "other"],
+              "words_hold": ["rule", "one", "other", "thing"], "judge_drift": ["rule", "motion"],
+              "drift_holds": ["rule", "motion", "thing"], "is_central": ["rule", "motion"],
+              "root_of": ["rule", "motion", "k"], "leads_over": ["rule", "one", "other"], "motion_power": ["motion", "k"],
+              "moved": ["motion", "point"]},
+    "frozen": {"power_row": ["rule", "kind", "k"], "frozen_number": ["rule"], "judge_frozen": ["rule"],
+               "frozen_holds": ["rule", "thing"], "is_element": ["rule", "thing"], "element_of": ["rule", "word"],
+               "world_elements": ["rule"], "world_product": ["rule", "one", "other"], "world_inverse": ["rule", "element"],
+               "world_power": ["rule", "element", "k"], "world_order": ["rule", "element"], "moves": ["rule", "kind"]},
+    "turns": {"turns_of": ["rule"], "is_turn": ["rule", "thing"], "still_basis": ["rule"], "is_still": ["rule", "heap"],
+              "judge_still": ["rule", "heap"], "still_holds": ["rule", "heap", "thing"], "reduced": ["rule", "heap"],
+              "least_heap": ["rule", "turn"], "row_of_turn": ["rule", "turn"], "turn_sum": ["rule", "one", "other"],
+              "turn_opposite": ["rule", "turn"], "sums_table": ["rule"]},
+    "folding": {"names_of": ["rule"], "folded": ["rule"], "folded_row": ["rule", "row"], "tower": ["rule"], "level": ["rule"],
+                "end_behind": ["rule", "kind", "kinds"], "judge_level": ["rule", "m"], "level_holds": ["rule", "m", "thing"]},
 }
 
 

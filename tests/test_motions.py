@@ -2,8 +2,8 @@
 
 from itertools import permutations, product
 
-from tests.samples import (BOTH, GUARD, ONE, RULES, SMALL_RULES, STRANGE, WRONG_RULES, Case, long_rows, plain_is_pair,
-                           plain_kind_motion, plain_motion, plain_product, rows_of, shifted, spoiled, wrong_heaps,
+from tests.samples import (BOTH, GUARD, ONE, RULES, SMALL_RULES, STRANGE, WRONG_RULES, Case, long_rows, plain_inverse,
+                           plain_is_pair, plain_kind_motion, plain_motion, plain_product, rows_of, shifted, spoiled, wrong_heaps,
                            wrong_rows)
 from threesfit.errors import BadHeap, BadMotion, BadRow, BadRule
 from threesfit.motions import is_motion, motion_inverse, motion_of, motion_product, turn_of
@@ -46,12 +46,6 @@ def motions_near(rule, most):
                     found.add(other)
                     todo.append(other)
     return found
-
-
-def plain_inverse(pair):
-    heap, turn = pair
-    back = tuple(turn.index(y) for y in range(len(turn)))
-    return tuple(-heap[turn[y]] for y in range(len(turn))), back
 
 
 def frozen(rule):

@@ -81,3 +81,46 @@ def path_of(t, y):
     while t[path[-1]] != y:
         path.append(t[path[-1]])
     return path
+
+
+def is_just(thing, wanted):
+    """Whether any value equals one of integers, strings and tuples; bools are told apart from integers."""
+    if not isinstance(wanted, tuple):
+        return not isinstance(thing, bool) and thing == wanted
+    if not isinstance(thing, tuple) or len(thing) != len(wanted):
+        return False
+    return all([is_just(part, other) for part, other in zip(thing, wanted)])
+
+
+def less_times(one, many, other):
+    """A heap less so many times another one, kind by kind."""
+    return tuple([number - many * less for number, less in zip(one, other)])
+
+
+def _with_one_pivot(heaps, at):
+    """Heaps of which sums of integer multiples are the same; at a place, only the first one may have no 0."""
+    found = heaps
+    pivots = sorted([(abs(heap[at]), heap) for heap in found if heap[at]])
+    while pivots:
+        _, pivot = pivots[0]
+        others = [less_times(heap, heap[at] // pivot[at], pivot) for heap in found if heap != pivot]
+        found = [pivot] + others
+        pivots = sorted([(abs(heap[at]), heap) for heap in others if heap[at]])
+    return found
+
+
+def cleared(heap, ways, many):
+    """A heap less integer multiples of ways, which has 0 at the first so many places; None if there is none.
+
+    No way is a sum of integer multiples of the others.
+    """
+    left = heap
+    open_ways = ways
+    for at in range(many):
+        open_ways = _with_one_pivot(open_ways, at)
+        if open_ways and open_ways[0][at]:
+            left = less_times(left, left[at] // open_ways[0][at], open_ways[0])
+            open_ways = open_ways[1:]
+        if left[at]:
+            return None
+    return left

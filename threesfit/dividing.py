@@ -26,7 +26,7 @@ def _both_right_heaps(rule, one, other):
     return _heap(rights, one[::-1]), _heap(rights, other[::-1])
 
 
-def _first_rest(lefts, row, heap):
+def first_rest(lefts, row, heap):
     """The first row among the rests of a row in the rows with a heap, which it divides from the left."""
     own, turn = heap_and_turn(lefts, row)
     return first_with_heap(lefts, turned_back(turn, lessened(heap, own)))
@@ -50,7 +50,7 @@ def judge_divides(rule, one, other):
     for x, many in enumerate(own):
         if many > heap[x]:
             return ("kind", x)
-    return ("rest", _first_rest(left_turns(rule), one, heap))
+    return ("rest", first_rest(left_turns(rule), one, heap))
 
 
 def divides_holds(rule, one, other, thing):
@@ -68,7 +68,7 @@ def rest(rule, one, other):
     own, heap = _both_heaps(rule, one, other)
     if not is_within(own, heap):
         raise NoRest()
-    return _first_rest(left_turns(rule), one, heap)
+    return first_rest(left_turns(rule), one, heap)
 
 
 def rest_right(rule, one, other):
@@ -76,7 +76,7 @@ def rest_right(rule, one, other):
     own, heap = _both_right_heaps(rule, one, other)
     if not is_within(own, heap):
         raise NoRest()
-    backwards = _first_rest(left_turns(mirror(rule)), one[::-1], heap)
+    backwards = first_rest(left_turns(mirror(rule)), one[::-1], heap)
     lefts = left_turns(rule)
     # The first row by the mirror, read backwards, is a rest, but need not be the first one.
     return first_with_heap(lefts, _heap(lefts, backwards[::-1]))
@@ -103,4 +103,4 @@ def common_divisor(rule, one, other):
 def complement(rule, one, other):
     """The first row that is a complement of a row to another one."""
     own, heap = _both_heaps(rule, one, other)
-    return _first_rest(left_turns(rule), one, _greater(own, heap))
+    return first_rest(left_turns(rule), one, _greater(own, heap))

@@ -35,7 +35,7 @@ def _aims(order, wanted):
     return [places[y][order[:at].count(y)] for at, y in enumerate(order)]
 
 
-def _fewest_meetings(order, wanted):
+def fewest_meetings(order, wanted):
     """As few places as can be, at which meetings lead from one order to another one with the same heap."""
     aims = _aims(order, wanted)
     places = []
@@ -55,7 +55,7 @@ def judge_alike(rule, one, other):
     heaps = counts(order, len(rule)), counts(wanted, len(rule))
     if heaps[0] != heaps[1]:
         return ("heaps",) + heaps
-    return ("meetings", _fewest_meetings(order, wanted))
+    return ("meetings", fewest_meetings(order, wanted))
 
 
 def _meetings_lead(rule, one, other, places):
@@ -85,7 +85,7 @@ def distance(rule, one, other):
     order, wanted = _both_orders(rule, one, other)
     if counts(order, len(rule)) != counts(wanted, len(rule)):
         raise NotAlike()
-    return len(_fewest_meetings(order, wanted))
+    return len(fewest_meetings(order, wanted))
 
 
 def _many_rows(heap):

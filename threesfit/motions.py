@@ -7,7 +7,7 @@ from threesfit.orders import heap_and_turn, one_more, require_row
 from threesfit.rules import left_turns, require_rule
 
 
-def _is_pair(thing):
+def is_pair(thing):
     """Whether any value is a pair of any size."""
     if not isinstance(thing, tuple) or len(thing) != 2 or not isinstance(thing[0], tuple):
         return False
@@ -16,7 +16,7 @@ def _is_pair(thing):
 
 
 def _require_pair(thing):
-    if not _is_pair(thing):
+    if not is_pair(thing):
         raise BadMotion(thing)
 
 
@@ -42,9 +42,17 @@ def turn_with_heap(lefts, heap):
 def is_motion(rule, thing):
     """Whether any value is a motion of a rule."""
     require_rule(rule)
-    if not _is_pair(thing) or len(thing[0]) != len(rule):
+    if not is_pair(thing) or len(thing[0]) != len(rule):
         return False
     return thing[1] == turn_with_heap(left_turns(rule), thing[0])
+
+
+def require_motions(rule, motions):
+    """Raise BadRule unless the rule is one, and BadMotion unless all motions are motions of it, the first one first."""
+    require_rule(rule)
+    for motion in motions:
+        if not is_motion(rule, motion):
+            raise BadMotion(motion)
 
 
 def motion_of(rule, row):
@@ -66,6 +74,26 @@ def pair_product(one, other):
     return added(one[0], turned(one[1], other[0])), after(one[1], other[1])
 
 
+def pair_inverse(pair):
+    """The inverse of what is known to be a pair."""
+    heap, turn = pair
+    zeros = (0,) * len(heap)
+    return lessened(zeros, turned_back(turn, heap)), inverse(turn)
+
+
+def pair_power(pair, k):
+    """What is known to be a pair to the power k, which is any integer."""
+    found = (0,) * len(pair[0]), identity(len(pair[0]))
+    square = pair if k > 0 else pair_inverse(pair)
+    left = abs(k)
+    while left:
+        if left & 1:
+            found = pair_product(found, square)
+        square = pair_product(square, square)
+        left >>= 1
+    return found
+
+
 def motion_product(one, other):
     """The product of two pairs of one size."""
     _require_pair(one)
@@ -78,6 +106,4 @@ def motion_product(one, other):
 def motion_inverse(motion):
     """The pair whose product with a pair, on either side, is the empty motion."""
     _require_pair(motion)
-    heap, turn = motion
-    zeros = (0,) * len(heap)
-    return lessened(zeros, turned_back(turn, heap)), inverse(turn)
+    return pair_inverse(motion)
