@@ -15,6 +15,9 @@ STUCK = (((0, 0), (1, 3), (3, 1), (2, 2)), ((2, 3), (3, 0), (1, 2), (0, 1)),
          ((3, 2), (2, 1), (0, 3), (1, 0)), ((1, 1), (0, 2), (2, 0), (3, 3)))
 EIGHT_TURNS = (((0, 0), (1, 2), (3, 3), (2, 1)), ((3, 2), (2, 0), (0, 1), (1, 3)),
                ((1, 1), (0, 3), (2, 2), (3, 0)), ((2, 3), (3, 1), (1, 0), (0, 2)))
+# Up to names this is the other stuck rule of four kinds, beside the two above, which are one up to names.
+STUCK_TOO = (((1, 1), (2, 2), (3, 0), (0, 3)), ((3, 3), (0, 0), (1, 2), (2, 1)),
+             ((2, 0), (1, 3), (0, 1), (3, 2)), ((0, 2), (3, 1), (2, 3), (1, 0)))
 
 # A table with faults of one kind alone, and others with faults of two or more kinds.
 ONLY_TWICE = (((0, 1), (1, 1)), ((0, 0), (1, 0)))
@@ -57,10 +60,10 @@ def led(t):
 
 
 # The full turn of the last rule turns three kinds around, so it is not its own inverse.
-SMALL_RULES = [ONE, CALM, BOTH, GUARD, SWAP, CYCLE, STUCK, EIGHT_TURNS, led((1, 2, 0, 3))]
+SMALL_RULES = [ONE, CALM, BOTH, GUARD, SWAP, CYCLE, STUCK, EIGHT_TURNS, STUCK_TOO, led((1, 2, 0, 3))]
 BIG_RULES = [shifted(5), beside(GUARD, CYCLE), beside(STUCK, SWAP), beside(STUCK, EIGHT_TURNS), shifted(8)]
 RULES = SMALL_RULES + BIG_RULES
-SIX_RULES = [shifted(6), beside(GUARD, SWAP), beside(STUCK, BOTH), beside(EIGHT_TURNS, BOTH), led((1, 2, 0, 4, 5, 3))]
+SIX_RULES = [shifted(6), beside(GUARD, SWAP), beside(STUCK, BOTH), beside(STUCK_TOO, BOTH), led((1, 2, 0, 4, 5, 3))]
 NO_RULES = [ONLY_TWICE, ONLY_THREE, LEFT_AND_RIGHT, RIGHT_AND_THREE, LEFT_AND_THREE, ALL_FAULTS]
 
 DEEP = ((((((((0,),),),),),),),)
@@ -221,6 +224,11 @@ def class_of(rule, row):
                 found.add(other)
                 todo.append(other)
     return found
+
+
+def are_plainly_alike(rule, one, other):
+    """Whether meetings lead from a row to another one."""
+    return len(one) == len(other) and other in class_of(rule, one)
 
 
 def distances_from(rule, row):

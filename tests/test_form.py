@@ -105,9 +105,12 @@ class FormTests(unittest.TestCase):
                 self.assertNotIn(name, taken, (file, name))
 
     def test_methods(self):
+        own = {part.name for _, node in nodes(ast.ClassDef) for part in node.body if isinstance(part, ast.FunctionDef)}
+        assigned = {node.attr for _, node in nodes(ast.Attribute) if isinstance(node.ctx, ast.Store)}
+        self.assertEqual(own & (METHODS | assigned), set())
         for file, node in nodes(ast.Call):
             if isinstance(node.func, ast.Attribute):
-                self.assertIn(node.func.attr, METHODS, (file, node.lineno))
+                self.assertIn(node.func.attr, METHODS | own, (file, node.lineno))
                 self.assertEqual(node.keywords, [], (file, node.lineno))
 
     def test_values(self):

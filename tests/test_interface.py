@@ -46,7 +46,23 @@ INTERFACE = {
               "turn_opposite": ["rule", "turn"], "sums_table": ["rule"]},
     "folding": {"names_of": ["rule"], "folded": ["rule"], "folded_row": ["rule", "row"], "tower": ["rule"], "level": ["rule"],
                 "end_behind": ["rule", "kind", "kinds"], "judge_level": ["rule", "m"], "level_holds": ["rule", "m", "thing"]},
+    "parting": {"is_closed": ["rule", "thing"], "lots": ["rule"], "is_calm": ["rule"], "judge_parted": ["rule"],
+                "parted_holds": ["rule", "thing"], "restricted": ["rule", "closed"], "is_keeping": ["rule", "thing"],
+                "crossed": ["one", "other", "f", "g"], "beside": ["one", "other"], "crossing_of": ["rule", "closed"]},
+    "naming": {"renamed": ["rule", "names"], "renamed_row": ["rule", "names", "row"], "least_name": ["rule"],
+               "keepings": ["rule"], "many_named": ["rule"], "renamings": ["one", "other"], "judge_named": ["one", "other"],
+               "named_holds": ["one", "other", "thing"], "all_rules": ["size"]},
+    "twosums": {"is_twosum": ["thing"], "judge_twosum": ["pair"], "twosum_holds": ["pair", "thing"],
+                "inner_turn": ["twosum", "a"], "still_part": ["twosum"], "folded_twosum": ["twosum"],
+                "rule_of_twosum": ["twosum"], "round_of_row": ["twosum", "row"], "twosum_of_turns": ["rule"],
+                "renamed_twosum": ["twosum", "names"], "least_twosum": ["twosum"], "twosum_renamings": ["one", "other"],
+                "all_twosums": ["size"]},
+    "desks": {"read_desk": ["text"]},
 }
+
+DESK = {"rule": [], "row": [], "order": [], "heap": [], "turn": [], "ways": [], "text": [], "undoable": [], "redoable": [],
+        "put": ["kind"], "lead": ["kind"], "meet": ["place"], "rearrange": ["row"], "divide": ["row"], "rename": ["names"],
+        "fold": [], "undo": [], "redo": [], "copied": [], "is_same": ["thing"]}
 
 
 class InterfaceTests(unittest.TestCase):
@@ -62,3 +78,15 @@ class InterfaceTests(unittest.TestCase):
                 for one in parameters:
                     self.assertIs(one.kind, one.POSITIONAL_OR_KEYWORD)
                     self.assertIs(one.default, one.empty)
+
+    def test_desks(self):
+        desk = importlib.import_module("threesfit.desks").Desk
+        self.assertEqual((desk.__module__, desk.__bases__), ("threesfit.desks", (object,)))
+        self.assertEqual(list(inspect.signature(desk).parameters), ["rule"])
+        for name, wanted in DESK.items():
+            self.assertTrue(inspect.isfunction(vars(desk)[name]), name)
+            parameters = list(inspect.signature(vars(desk)[name]).parameters.values())[1:]
+            self.assertEqual([one.name for one in parameters], wanted, name)
+            for one in parameters:
+                self.assertIs(one.kind, one.POSITIONAL_OR_KEYWORD)
+                self.assertIs(one.default, one.empty)

@@ -28,3 +28,6 @@ class LaterExampleTests(unittest.TestCase):
 
     def test_parts_7_to_10(self):
         self.check("examples_7_to_10.txt", 13)
+
+    def test_parts_11_to_14(self):
+        self.check("examples_11_to_14.txt", 13)

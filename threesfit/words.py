@@ -173,7 +173,8 @@ def _deeds_there_and_back(rule, word):
     for deed in there:
         back.append(deed)
         _do(rule, letters, deed)
-    for deed in _fraction_deeds(left_turns(rule), letters):
+    more = _fraction_deeds(left_turns(rule), letters)
+    for deed in more:
         there.append(deed)
         back.append(_undoing(letters, deed))
         _do(rule, letters, deed)
