@@ -113,6 +113,13 @@ class FormTests(unittest.TestCase):
                 self.assertIn(node.func.attr, METHODS | own, (file, node.lineno))
                 self.assertEqual(node.keywords, [], (file, node.lineno))
 
+    def test_products(self):
+        for file, node in nodes(ast.Call):
+            if isinstance(node.func, ast.Name) and node.func.id in LIBRARY["itertools"]:
+                self.assertEqual(node.keywords, [], (file, node.lineno))
+                for part in node.args:
+                    self.assertTrue(isinstance(part, ast.Call) and part.func.id == "range", (file, node.lineno))
+
     def test_values(self):
         barred = (ast.Global, ast.Set, ast.SetComp, ast.Lambda, ast.AsyncFunctionDef, ast.Div)
         self.assertEqual([(file, node) for file, node in nodes(barred)], [])
